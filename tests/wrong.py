@@ -1,0 +1,45 @@
+"""Values of all kinds that are no orders, no numbers, no deeds, no words."""
+
+from turnlines.errors import InvalidOrder, TurnError
+
+
+def deep_list(depth):
+    """Nest a list as deep as told."""
+    value = []
+    for _ in range(depth - 1):
+        value = [value]
+    return value
+
+
+TURNED_40 = list(range(39, -1, -1))
+TURNED_41 = list(range(40, -1, -1))
+
+NOT_LISTS = [
+    None, True, False, 0, 1, -1, 10 ** 30, "", "10", "ul", (), (1, 0), (2, 1, 0), {}, {1: 0, 0: 1},
+    TurnError(), InvalidOrder([1, 0]),
+]
+
+NOT_ROWS = NOT_LISTS + [
+    [], [0], [1], [True], [1, 1], [0, 0], [1, 2], [2, 0], [2, 2, 0], [3, 1, 0], [-1, 0], [1, -1], [10 ** 30, 0],
+    [True, False], [1, False], [True, 0], [2, True, 0], ["1", "0"], [1, "0"], [1, None], [None, None],
+    [(1,), 0], [[1], [0]], [[1, 0]], [[1, 0], [1, 0]], [{}, 0], [InvalidOrder(1), 0], deep_list(30), TURNED_41,
+]
+
+FALLING_ROWS = [[0, 1], [0, 2, 1], [1, 0, 2], [0, 1, 2], [1, 0, 3, 2], [2, 0, 1, 3], list(range(40))]
+
+NOT_ORDERS = NOT_ROWS + FALLING_ROWS
+
+NOT_WHOLE = [
+    None, True, False, "", "3", "u", [], [3], (), (3,), {}, {3: 3}, TurnError(), InvalidOrder(3), deep_list(30),
+]
+
+NOT_DEEDS = [
+    None, True, False, 0, 1, "", "U", "L", "x", "uu", "ul", "lu", " u", "u\n", "left", [], ["u"], ("u",), ("l", 1),
+    {}, {"u": 1}, TurnError(), InvalidOrder("u"), deep_list(30),
+]
+
+NOT_WORDS = [
+    None, True, False, 0, 1, "U", "x", "ux", "xu", "u l", " ", "ul\n", "\tul", "u" * 10001, "ul" * 5000 + "l",
+    "x" * 10000, "u" * 9999 + "~", [], ["u"], ["u", "l"], (), ("u",), {}, {"u": 1}, TurnError(), InvalidOrder("u"),
+    deep_list(30),
+]

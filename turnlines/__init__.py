@@ -1,0 +1,1 @@
+"""Lines cut in stretches and put together in another order."""
