@@ -1,7 +1,7 @@
 """The deeds done slowly on two written rows, and orders to try them on."""
 
 import random
-from itertools import permutations
+from itertools import combinations, permutations
 
 
 def falls_apart(row):
@@ -60,3 +60,131 @@ def mirrored_by_rows(order):
 def exchanged_by_rows(order):
     """Write the lower row above and the upper one below."""
     return named_anew(order, list(range(len(order))))
+
+
+def gap_by_rows(order, gap):
+    """Find the gap that a gap leads to as the document words it."""
+    size, at = len(order), order.index(gap)
+    if at == 0:
+        return 0
+    behind = order[at - 1] + 1
+    return behind if behind < size else order[-1] + 1
+
+
+def rings_by_gaps(order):
+    """Follow each gap until it comes again; list the rings from their least gaps on, in order."""
+    rings = []
+    for gap in range(len(order)):
+        ring = [gap]
+        while gap_by_rows(order, ring[-1]) != gap:
+            ring.append(gap_by_rows(order, ring[-1]))
+        if min(ring) == gap:
+            rings.append(ring)
+    return rings
+
+
+def sizes_by_gaps(order):
+    """Count the gaps other than 0 of each corner; tell the sizes, in order, and the marked one."""
+    counted = [len([gap for gap in ring if gap != 0]) for ring in rings_by_gaps(order)]
+    return sorted(counted), counted[0]
+
+
+def struck_by_rows(order, letter):
+    """Take a letter away from both rows."""
+    upper = [other for other in range(len(order)) if other != letter]
+    return named_anew(upper, [other for other in order if other != letter])
+
+
+def left_by_rows(order, deed):
+    """Do a deed at the other end of both rows."""
+    return mirrored_by_rows(deed_by_rows(mirrored_by_rows(order), deed))
+
+
+def lone_by_rows(order):
+    """List the gaps but 0 that lead to themselves."""
+    return [gap for gap in range(1, len(order)) if gap_by_rows(order, gap) == gap]
+
+
+def walk_by_words(order):
+    """Walk to the core as the document words it; tell the steps and what is left."""
+    steps = []
+    while True:
+        lone, (listed, marked) = lone_by_rows(order), sizes_by_gaps(order)
+        if lone and len(order) >= 3:
+            steps.append(("out", lone[0]))
+            order = struck_by_rows(order, lone[0])
+        elif marked == 1 and max(listed) > 1:
+            deed = "u" if sizes_by_gaps(left_by_rows(order, "u"))[1] != marked else "l"
+            steps.append(("left", deed))
+            order = left_by_rows(order, deed)
+        else:
+            return steps, order
+
+
+def corner_sets_of(order):
+    """Tell the corners as sets of gaps, whatever they begin with."""
+    return {frozenset(ring) for ring in rings_by_gaps(order)}
+
+
+def cross(order, x, y):
+    """Tell whether two letters cross."""
+    return x != y and (order.index(x) > order.index(y)) == (x < y)
+
+
+def form_by_pairs(order, letters):
+    """Count the letters of a set and its pairs that cross."""
+    return (len(letters) + sum(cross(order, x, y) for x in letters for y in letters if x < y)) % 2
+
+
+def meets_by_pairs(order, one, other):
+    """Count the pairs of a letter of each set that cross."""
+    return sum(cross(order, x, y) for x in one for y in other) % 2
+
+
+def all_sets(size):
+    """List all sets of letters of a size, in order."""
+    return sorted(list(letters) for many in range(size + 1) for letters in combinations(range(size), many))
+
+
+def in_just_one(one, other):
+    """List the letters that are in just one of two sets."""
+    return sorted(set(one) ^ set(other))
+
+
+def combined(sets):
+    """List the letters that are in an odd number of sets."""
+    letters = []
+    for one in sets:
+        letters = in_just_one(letters, one)
+    return letters
+
+
+def drawn_sets(size, many, seed):
+    """List some sets of letters of a size, the same ones at each call."""
+    source = random.Random(seed)
+    return [[letter for letter in range(size) if source.random() < 0.5] for _ in range(many)]
+
+
+def quick_deed(order, deed):
+    """Do a deed at an order that is a tuple."""
+    greatest, last = len(order) - 1, order[-1]
+    if deed == "u":
+        behind = order.index(greatest) + 1
+        return order[:behind] + (last,) + order[behind:-1]
+    return tuple(last + 1 if letter == greatest else letter + (letter > last) for letter in order)
+
+
+def reached(order):
+    """Tell for each order to which words lead, as a tuple, the first of the shortest words that do it."""
+    words = {tuple(order): ""}
+    latest = [tuple(order)]
+    while latest:
+        behind = []
+        for row in latest:
+            for deed in "lu":
+                further = quick_deed(row, deed)
+                if further not in words:
+                    words[further] = words[row] + deed
+                    behind.append(further)
+        latest = behind
+    return words

@@ -70,6 +70,22 @@ def bound_names(tree):
     return found
 
 
+def arguments_and_variables(tree):
+    """List the names of all parameters and local variables of a file."""
+    found = []
+    for node in tree.body:
+        if isinstance(node, (ast.FunctionDef, ast.ClassDef)):
+            found += [name for name in bound_names(ast.Module(body=[node], type_ignores=[])) if name != node.name]
+    return found
+
+
+def calls_of(tree, names):
+    """List the calls of some names, each with what it stands in."""
+    above = {below: node for node in ast.walk(tree) for below in ast.iter_child_nodes(node)}
+    calls = [node for node in ast.walk(tree) if isinstance(node, ast.Call) and isinstance(node.func, ast.Name)]
+    return [(node, above) for node in calls if node.func.id in names]
+
+
 class FilesTest(unittest.TestCase):
     def test_folder_holds_files_of_the_package_only(self):
         for path in PACKAGE.glob("**/*"):
@@ -137,6 +153,35 @@ class ModulesTest(unittest.TestCase):
                 del left[name]
 
 
+class CallsTest(unittest.TestCase):
+    def test_products_are_iterated_at_once(self):
+        for path, _, tree in package_files():
+            for node, above in calls_of(tree, ["product", "combinations", "permutations"]):
+                self.assertEqual([], node.keywords, path)
+                self.assertIsInstance(above[node], (ast.comprehension, ast.For), path)
+                self.assertNotIsInstance(above[above[node]], ast.GeneratorExp, path)
+
+    def test_sets_stand_in_sorted_or_len(self):
+        for path, _, tree in package_files():
+            self.assertEqual([], [node for node in ast.walk(tree) if isinstance(node, (ast.Set, ast.SetComp))], path)
+            for node, above in calls_of(tree, ["set", "frozenset"]):
+                outer = above[node]
+                while isinstance(outer, ast.BinOp):
+                    outer = above[outer]
+                self.assertIn(outer.func.id, ["sorted", "len"], path)
+
+    def test_iterated_on_the_spot(self):
+        taking = "list tuple dict sorted sum any all enumerate zip min max reversed".split()
+        taking += ["product", "combinations", "permutations"]
+        for path, _, tree in package_files():
+            for node, above in calls_of(tree, ["zip", "enumerate", "reversed", "range"]):
+                outer = above[node]
+                if isinstance(outer, ast.Call):
+                    self.assertIn(outer.func.id, taking, path)
+                else:
+                    self.assertIsInstance(outer, (ast.comprehension, ast.For), (path, node.lineno))
+
+
 class NamesTest(unittest.TestCase):
     def test_nodes(self):
         for path, _, tree in package_files():
@@ -152,6 +197,22 @@ class NamesTest(unittest.TestCase):
             for name in bound_names(tree):
                 self.assertFalse(hasattr(builtins, name), (path, name))
                 self.assertRegex(name, r"^(_|_?[A-Za-z][A-Za-z0-9_]*)$", path)
+
+    def test_names_of_imports_and_classes_have_one_meaning(self):
+        for path, _, tree in package_files():
+            taken = [node.name for node in tree.body if isinstance(node, ast.ClassDef)]
+            for node in tree.body:
+                if isinstance(node, ast.ImportFrom):
+                    taken += [name.name for name in node.names]
+            self.assertEqual(len(taken), len(set(taken)), path)
+            self.assertEqual([], sorted(set(taken) & set(arguments_and_variables(tree))), path)
+
+    def test_identity_and_powers(self):
+        for path, _, tree in package_files():
+            for node in ast.walk(tree):
+                self.assertNotIsInstance(node, ast.Pow, path)
+                if isinstance(node, ast.Compare) and isinstance(node.ops[0], (ast.Is, ast.IsNot)):
+                    self.assertIsInstance(node.comparators[0], ast.Constant, path)
 
     def test_methods(self):
         for path, _, tree in package_files():

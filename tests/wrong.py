@@ -43,3 +43,11 @@ NOT_WORDS = [
     "x" * 10000, "u" * 9999 + "~", [], ["u"], ["u", "l"], (), ("u",), {}, {"u": 1}, TurnError(), InvalidOrder("u"),
     deep_list(30),
 ]
+
+# No sets of an order of three letters.
+NOT_SETS = [
+    None, True, False, 0, 1, 2, 10 ** 29, "", "0", "ul", (), (0,), (0, 1), {}, {0: 1}, TurnError(), InvalidOrder([0]),
+    [3], [-1], [0, 3], [-1, 0], [1, 0], [2, 1], [2, 1, 0], [0, 2, 1], [0, 0], [0, 1, 1], [2, 2], [True], [False],
+    [0, True], [False, 1], [False, True], [None], ["0"], [0, "1"], [0, None], [(0,)], [[0]], [[], [0]], [{}],
+    [10 ** 29], [-10 ** 29], [0, 1, 2, 3], [TurnError()], [0, TurnError()], deep_list(30),
+]

@@ -30,13 +30,20 @@ def deed_done(order, deed):
     return [names[letter] for letter in order]
 
 
+def names_ahead(order, deed):
+    """Return for each letter its name ahead of a deed, given the order ahead of it or the one behind it."""
+    if deed == "u":
+        return list(range(len(order)))
+    last, greatest = order[-1], len(order) - 1
+    return list(range(last + 1)) + [greatest] + list(range(last + 1, greatest))
+
+
 def deed_undone(order, deed):
     """Return the order from which a deed leads to this one, without a check."""
     if deed == "u":
         behind = order.index(len(order) - 1) + 1
         return order[:behind] + order[behind + 1:] + [order[behind]]
-    last, greatest = order[-1], len(order) - 1
-    names = list(range(last + 1)) + [greatest] + list(range(last + 1, greatest))
+    names = names_ahead(order, deed)
     return [names[letter] for letter in order]
 
 
