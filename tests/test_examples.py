@@ -13,7 +13,8 @@ class ExamplesTest(unittest.TestCase):
         names, many = {}, 0
         for line, below in zip(lines, lines[1:] + [""]):
             if below.startswith("# "):
-                self.assertEqual(below[2:], repr(eval(line, names)), line)
+                # An answer may be written with either kind of quotes.
+                self.assertEqual(repr(eval(below[2:], {})), repr(eval(line, names)), line)
                 many += 1
             elif not line.startswith("# "):
                 exec(line, names)
@@ -21,6 +22,19 @@ class ExamplesTest(unittest.TestCase):
 
     def test_deeds(self):
         self.assertEqual(5, self.run_block("deeds.txt"))
+
+    def test_cores(self):
+        self.assertEqual(6, self.run_block("cores.txt"))
+
+    def test_setcounts(self):
+        self.assertEqual(5, self.run_block("setcounts.txt"))
+
+    def test_standards(self):
+        self.assertEqual(6, self.run_block("standards.txt"))
+
+    def test_joining(self):
+        # Only what the block behind [29] says of turnlines.joining.
+        self.assertEqual(2, self.run_block("joining.txt"))
 
 
 if __name__ == "__main__":
