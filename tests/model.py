@@ -188,3 +188,73 @@ def reached(order):
                     behind.append(further)
         latest = behind
     return words
+
+
+def first_words(order):
+    """Go through the words by length and in order; tell for each order, as a tuple, the first word that leads there."""
+    found, latest, more = {}, [("", tuple(order))], True
+    while more:
+        more = False
+        for word, row in latest:
+            if row not in found:
+                found[row], more = word, True
+        latest = [(word + deed, quick_deed(row, deed)) for word, row in latest for deed in "lu"]
+    return found
+
+
+def quick_led(order, word):
+    """Do the deeds of a word at an order that is a tuple."""
+    for deed in word:
+        order = quick_deed(order, deed)
+    return order
+
+
+def cells_by_rows(order, lengths):
+    """Write both rows out cell by cell; list to which cell each cell is led, and on which letter it lies."""
+    upper = [(letter, number) for letter in range(len(order)) for number in range(lengths[letter])]
+    lower = [(letter, number) for letter in order for number in range(lengths[letter])]
+    places = {cell: place for place, cell in enumerate(lower)}
+    return [places[cell] for cell in upper], [letter for letter, _ in upper]
+
+
+def rounds_by_walking(order, lengths):
+    """List all rounds, each from its least cell on, as the exchange leads its cells."""
+    led_to, _ = cells_by_rows(order, lengths)
+    found, seen = [], set()
+    for cell in range(len(led_to)):
+        ring = []
+        while cell not in seen:
+            seen.add(cell)
+            ring.append(cell)
+            cell = led_to[cell]
+        if ring:
+            found.append(ring)
+    return found
+
+
+def some_lengths(sizes, most, seed):
+    """List some lengths for orders, the same ones at each call."""
+    source = random.Random(seed)
+    return [[source.randint(1, most) for _ in range(size)] for size in sizes]
+
+
+def small_lines():
+    """List orders with lengths that are so small that all cells can be walked."""
+    orders = [order for size in range(2, 6) for order in all_orders(size)]
+    lines = list(zip(orders, some_lengths(map(len, orders), 4, 1)))
+    lines += list(zip(orders, some_lengths(map(len, orders), 12, 2)))
+    lines += [(order, [1] * len(order)) for order in orders] + [(order, [6] * len(order)) for order in orders]
+    larger = some_orders([6, 7, 8, 10, 20, 40], 3)
+    for most in [1, 2, 5]:
+        lines += list(zip(larger, some_lengths(map(len, larger), most, 3)))
+    return lines
+
+
+def large_lines():
+    """List orders with lengths of up to 30 figures."""
+    lines = []
+    for order in some_orders([2, 3, 5, 9, 39, 40], 1) + [list(range(39, -1, -1)), list(range(1, 40)) + [0]]:
+        drawn = some_lengths([len(order)] * 2, 10 ** 30 - 1, len(order))
+        bent = [10 ** (7 * letter % 30) + letter for letter in range(len(order))]
+        lines += [(order, lengths) for lengths in drawn + [bent]]
+    return lines

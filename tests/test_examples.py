@@ -32,9 +32,15 @@ class ExamplesTest(unittest.TestCase):
     def test_standards(self):
         self.assertEqual(6, self.run_block("standards.txt"))
 
-    def test_joining(self):
-        # Only what the block behind [29] says of turnlines.joining.
-        self.assertEqual(2, self.run_block("joining.txt"))
+    def test_ways(self):
+        self.assertEqual(4, self.run_block("ways.txt"))
+
+    def test_classes(self):
+        self.assertEqual(3, self.run_block("classes.txt"))
+
+    def test_rounds(self):
+        # All but what the block behind [37] says of turnlines.kinds.
+        self.assertEqual(3, self.run_block("rounds.txt"))
 
 
 if __name__ == "__main__":

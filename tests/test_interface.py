@@ -35,6 +35,22 @@ FUNCTIONS = {
         "word_to_standard(order)", "is_word_to_standard(order, value)", "four_runs(order, ups, lows)",
     ],
     "turnlines.joining": ["signs(order)", "unlike_sign(one, other)", "joined(one, other)"],
+    "turnlines.ways": [
+        "shortest_way(one, other)", "is_way(one, other, value)", "way_back(order, word)", "comes_round(order, word)",
+        "how_many_words(one, other, length)", "word_numbered(one, other, length, number)",
+    ],
+    "turnlines.classes": [
+        "class_size(order)", "class_orders(order)", "class_number(order)", "class_numbered(order, number)",
+        "next_in_class(order)", "classes(size)", "class_signs(size)",
+    ],
+    "turnlines.exchanges": [
+        "led_cell(order, lengths, cell)", "cell_ahead(order, lengths, cell)", "letter_of(order, lengths, cell)",
+        "led_times(order, lengths, cell, count)",
+    ],
+    "turnlines.rounds": [
+        "round_time(order, lengths, cell)", "first_cell(order, lengths, cell)", "turns_to(order, lengths, one, other)",
+        "rounds(order, lengths)", "are_one_round(order, lengths)", "first_cells(order, lengths)",
+    ],
 }
 
 CALLS_BY_NAME = {
@@ -91,6 +107,29 @@ CALLS_BY_NAME = {
     "signs": ({"order": [2, 1, 0]}, ([1, 1], 1, -4, True)),
     "unlike_sign": ({"other": [3, 1, 2, 0], "one": [3, 2, 1, 0]}, 0),
     "joined": ({"other": [1, 2, 0], "one": [2, 0, 1]}, True),
+    "shortest_way": ({"other": [1, 2, 0], "one": [2, 0, 1]}, "ul"),
+    "is_way": ({"value": "ul", "other": [1, 2, 0], "one": [2, 0, 1]}, True),
+    "way_back": ({"word": "u", "order": [2, 1, 0]}, "u"),
+    "comes_round": ({"word": "ul", "order": [2, 1, 0]}, 3),
+    "how_many_words": ({"length": 1, "other": [2, 0, 1], "one": [2, 1, 0]}, 1),
+    "word_numbered": ({"number": 0, "length": 2, "other": [1, 2, 0], "one": [2, 0, 1]}, "ul"),
+    "class_size": ({"order": [3, 2, 1, 0]}, 7),
+    "class_orders": ({"order": [2, 1, 0]}, [[1, 2, 0], [2, 0, 1], [2, 1, 0]]),
+    "class_number": ({"order": [3, 2, 1, 0]}, 6),
+    "class_numbered": ({"number": 2, "order": [3, 2, 1, 0]}, [2, 0, 3, 1]),
+    "next_in_class": ({"order": [2, 0, 3, 1]}, [2, 1, 3, 0]),
+    "classes": ({"size": 4}, [([1, 2, 3, 0], 6), ([1, 3, 0, 2], 7)]),
+    "class_signs": ({"size": 2}, [([1], 1, -2, True)]),
+    "led_cell": ({"cell": 0, "lengths": [2, 1, 3], "order": [2, 1, 0]}, 4),
+    "cell_ahead": ({"cell": 0, "lengths": [2, 1, 3], "order": [2, 1, 0]}, 3),
+    "letter_of": ({"cell": 2, "lengths": [2, 1, 3], "order": [2, 1, 0]}, 1),
+    "led_times": ({"count": 2, "cell": 0, "lengths": [2, 1, 3], "order": [2, 1, 0]}, 1),
+    "round_time": ({"cell": 0, "lengths": [2, 1, 3], "order": [2, 1, 0]}, 6),
+    "first_cell": ({"cell": 4, "lengths": [2, 1, 3], "order": [2, 1, 0]}, 0),
+    "turns_to": ({"other": 2, "one": 0, "lengths": [2, 1, 3], "order": [2, 1, 0]}, 4),
+    "rounds": ({"lengths": [4, 6], "order": [1, 0]}, [(5, 2)]),
+    "are_one_round": ({"lengths": [2, 1, 3], "order": [2, 1, 0]}, True),
+    "first_cells": ({"lengths": [4, 6], "order": [1, 0]}, [(0, 2, 5)]),
 }
 
 

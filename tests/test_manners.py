@@ -1,29 +1,39 @@
-"""Point [2] for the modules of the points [9] to [26]: arguments, answers and refused orders."""
+"""Point [2] for the modules of the points from [9] on: arguments, answers and refused orders."""
 
 import copy
 import unittest
 
 from tests.case import Case
 from tests.wrong import NOT_ORDERS, TURNED_40
+from turnlines.classes import (
+    class_number, class_numbered, class_orders, class_signs, class_size, classes, next_in_class,
+)
 from turnlines.corners import corners, genus, marked_size, next_gap, order_with, sizes, struck, with_letter
 from turnlines.cores import core, core_walk, is_core, lone_gaps
-from turnlines.errors import InvalidOrder
+from turnlines.errors import InvalidLengths, InvalidOrder
+from turnlines.exchanges import cell_ahead, led_cell, led_times, letter_of
 from turnlines.folds import how_many_turned, is_folded, turned_number, turned_numbered, word_to
 from turnlines.forms import corner_set, crossings, form, is_set, is_silent, meets, silent_sets
 from turnlines.joining import joined, signs, unlike_sign
+from turnlines.rounds import are_one_round, first_cell, first_cells, round_time, rounds, turns_to
 from turnlines.setcounts import how_many_sets, set_ahead, set_number, set_numbered, sign_sum
 from turnlines.standards import (
     four_runs, how_many_standard, inside_of, is_standard, is_word_to_standard, standard_with, word_to_standard,
 )
+from turnlines.ways import comes_round, how_many_words, is_way, shortest_way, way_back, word_numbered
 
 BENT = [1, 3, 2, 7, 6, 5, 4, 8, 0]
 ORDERS = [[1, 0], [2, 1, 0], [1, 2, 0], [3, 2, 1, 0], [3, 1, 2, 0], BENT, [1, 3, 0, 2], TURNED_40]
+SMALL_ORDERS = [[1, 0], [2, 1, 0], [1, 2, 0], [3, 2, 1, 0], [3, 1, 2, 0], [1, 3, 0, 2]]
 STANDARD = [[1, 0], [2, 1, 0], [3, 1, 2, 0], [4, 1, 3, 2, 0], TURNED_40]
 
 OF_ORDERS_ALONE = [
     corners, sizes, marked_size, genus, lone_gaps, core_walk, core, is_core, crossings, silent_sets, sign_sum, word_to,
     turned_number, is_folded, is_standard, word_to_standard, signs,
 ]
+
+# These go through all orders that deeds lead to.
+OF_SMALL_ORDERS_ALONE = [class_size, class_orders, class_number, next_in_class]
 
 # Further arguments that are good beside any order.
 WITH_MORE = {
@@ -32,7 +42,29 @@ WITH_MORE = {
     set_ahead: ["u", [0, 1]], is_word_to_standard: ["ul"],
 }
 
+WITH_MORE_SMALL = {class_numbered: [0], way_back: ["ul"], comes_round: ["ull"]}
+
+# Orders with the lengths of their letters, and what may stand behind them.
+LINES = [
+    [[2, 1, 0], [2, 1, 3]], [[2, 1, 0], [1, 2, 1]], [[1, 0], [4, 6]], [[1, 0], [10 ** 29, 3]], [[1, 2, 0], [2, 1, 1]],
+    [BENT, [3, 1, 4, 1, 5, 9, 2, 6, 5]], [BENT, [1] * 9], [TURNED_40, [10 ** 29 + letter for letter in range(40)]],
+]
+OF_LINES = {
+    led_cell: [1], cell_ahead: [1], letter_of: [1], led_times: [1, -5], round_time: [1], first_cell: [1],
+    turns_to: [1, 3], rounds: [], are_one_round: [], first_cells: [],
+}
+
+# Two orders of one size, and what may stand behind them.
+PAIRS = [
+    [[2, 1, 0], [1, 2, 0]], [[3, 2, 1, 0], [3, 1, 2, 0]], [[3, 2, 1, 0], [3, 2, 1, 0]], [[1, 3, 0, 2], [3, 1, 0, 2]],
+]
+OF_PAIRS = {unlike_sign: [], joined: [], shortest_way: [], is_way: ["lu"], how_many_words: [9]}
+
 CALLS = {function: [[order] for order in ORDERS] for function in OF_ORDERS_ALONE}
+CALLS.update({function: [[order] for order in SMALL_ORDERS] for function in OF_SMALL_ORDERS_ALONE})
+CALLS.update({function: [[order, *more] for order in SMALL_ORDERS] for function, more in WITH_MORE_SMALL.items()})
+CALLS.update({function: [line + more for line in LINES] for function, more in OF_LINES.items()})
+CALLS.update({function: [pair + more for pair in PAIRS] for function, more in OF_PAIRS.items()})
 CALLS.update({function: [[order, *more] for order in ORDERS[:-1]] for function, more in WITH_MORE.items()})
 CALLS.update({
     corner_set: [[[2, 1, 0], 0], [[3, 1, 2, 0], 2], [BENT, 1]],
@@ -43,8 +75,8 @@ CALLS.update({
     how_many_turned: [[2], [40]], turned_numbered: [[2, 0], [4, 5], [40, 0]], how_many_standard: [[2], [40]],
     standard_with: [[[]], [[0]], [[1, 0]], [[2, 0, 1]]], inside_of: [[order] for order in STANDARD],
     four_runs: [[[1, 0], 0, 0], [[2, 1, 0], 1, 0], [[4, 1, 3, 2, 0], 3, 1], [[4, 1, 3, 2, 0], 1, 1]],
-    unlike_sign: [[[2, 1, 0], [1, 2, 0]], [[3, 2, 1, 0], [3, 1, 2, 0]], [BENT, [1, 7, 6, 5, 4, 3, 2, 8, 0]]],
-    joined: [[[2, 1, 0], [1, 2, 0]], [[3, 2, 1, 0], [3, 1, 2, 0]], [BENT, BENT[:]]],
+    word_numbered: [[[2, 1, 0], [2, 1, 0], 2, 1], [[3, 2, 1, 0], [1, 3, 0, 2], 5, 0], [[1, 0], [1, 0], 60, 2 ** 59]],
+    classes: [[2], [3], [5]], class_signs: [[2], [4], [6]],
 })
 
 
@@ -65,7 +97,7 @@ def copies_of(calls):
 
 class MannersTest(Case):
     def test_all_functions_are_there(self):
-        self.assertEqual(39, len(CALLS))
+        self.assertEqual(62, len(CALLS))
 
     def test_equal_answers_and_unchanged_arguments(self):
         for function, calls in CALLS.items():
@@ -113,8 +145,11 @@ class MannersTest(Case):
                 self.assertEqual(repr(function(*copy.deepcopy(other))), repr(function(*args)), (function, other))
 
     def test_orders_broken_in_place_are_refused(self):
-        for function in [*OF_ORDERS_ALONE, *WITH_MORE]:
-            order, more = [2, 1, 0], WITH_MORE.get(function, [])
+        all_more = {**dict.fromkeys(OF_ORDERS_ALONE + OF_SMALL_ORDERS_ALONE, []), **WITH_MORE, **WITH_MORE_SMALL}
+        all_more.update({function: [[2, 1, 3], *more] for function, more in OF_LINES.items()})
+        all_more.update({function: [[2, 1, 0], *more] for function, more in OF_PAIRS.items()})
+        for function, more in all_more.items():
+            order = [2, 1, 0]
             function(order, *more)
             order[:] = [0, 1, 2]
             if function == is_standard:
@@ -123,15 +158,23 @@ class MannersTest(Case):
                 self.assert_refused(InvalidOrder, order, function, order, *more)
 
 
+    def test_lengths_broken_in_place_are_refused(self):
+        for function, more in OF_LINES.items():
+            lengths = [2, 1, 3]
+            function([2, 1, 0], lengths, *more)
+            lengths[1] = 0
+            self.assert_refused(InvalidLengths, lengths, function, [2, 1, 0], lengths, *more)
+
+
 class OrdersRefusedTest(Case):
     def test_of_orders_alone(self):
-        for function in OF_ORDERS_ALONE:
+        for function in OF_ORDERS_ALONE + OF_SMALL_ORDERS_ALONE:
             for value in NOT_ORDERS:
                 if function != is_standard:
                     self.assert_refused(InvalidOrder, value, function, value)
 
     def test_ahead_of_all_other_arguments(self):
-        for function, more in WITH_MORE.items():
+        for function, more in [*WITH_MORE.items(), *WITH_MORE_SMALL.items()]:
             for value in NOT_ORDERS:
                 self.assert_refused(InvalidOrder, value, function, value, *more)
                 for wrong in [None, -1, True, "x", [1, 0], (0,)]:

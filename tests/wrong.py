@@ -51,3 +51,17 @@ NOT_SETS = [
     [0, True], [False, 1], [False, True], [None], ["0"], [0, "1"], [0, None], [(0,)], [[0]], [[], [0]], [{}],
     [10 ** 29], [-10 ** 29], [0, 1, 2, 3], [TurnError()], [0, TurnError()], deep_list(30),
 ]
+
+# No lengths for an order of three letters.
+NOT_LENGTHS = [
+    None, True, False, 0, 1, 3, 10 ** 29, "", "111", "ul", (), (1, 1, 1), {}, {0: 1, 1: 1, 2: 1}, TurnError(),
+    InvalidOrder([1, 1, 1]), [], [1], [1, 1], [1, 1, 1, 1], [0, 1, 1], [1, 0, 1], [1, 1, 0], [0, 0, 0], [-1, 1, 1],
+    [1, 1, -1], [True, 1, 1], [1, 1, True], [1, False, 1], [True, True, True], [None, 1, 1], [1, None, 1],
+    ["1", 1, 1], [1, 1, "1"], [(1,), 1, 1], [[1], [1], [1]], [[1, 1, 1]], [1, 1, [1]], [1, {}, 1], [1, 1, TurnError()],
+    [-10 ** 29, 10 ** 29, 10 ** 29], deep_list(30),
+]
+
+
+def not_cells(many):
+    """List values that are no cells of a line of so many cells."""
+    return NOT_WHOLE + [-1, -2, -many, many, many + 1, 10 * many, 10 ** 29 + many, -10 ** 29]
