@@ -1,7 +1,8 @@
-"""The deeds done slowly on two written rows, and orders to try them on."""
+"""What the document tells, done slowly as it words it, and orders and lengths to try it on."""
 
 import random
-from itertools import combinations, permutations
+from fractions import Fraction
+from itertools import combinations, groupby, permutations
 
 
 def falls_apart(row):
@@ -258,3 +259,132 @@ def large_lines():
         bent = [10 ** (7 * letter % 30) + letter for letter in range(len(order))]
         lines += [(order, lengths) for lengths in drawn + [bent]]
     return lines
+
+
+def deed_with_lengths(order, lengths, deed):
+    """Do a deed at both written rows: the winner gets shorter by the loser; tell the order and the lengths behind."""
+    upper, lower, left = list(range(len(order))), list(order), dict(enumerate(lengths))
+    above, below = upper[-1], lower[-1]
+    if deed == "u":
+        left[above] -= left[below]
+        lower.remove(below)
+        lower.insert(lower.index(above) + 1, below)
+    else:
+        left[below] -= left[above]
+        upper.remove(above)
+        upper.insert(upper.index(below) + 1, above)
+    return named_anew(upper, lower), [left[letter] for letter in upper]
+
+
+def deeds_one_by_one(order, lengths):
+    """Take deed behind deed until the lengths stand; tell all deeds, and the order and the lengths that stand."""
+    word = ""
+    while lengths[-1] != lengths[order[-1]]:
+        deed = "u" if lengths[-1] > lengths[order[-1]] else "l"
+        order, lengths = deed_with_lengths(order, lengths, deed)
+        word += deed
+    return word, order, lengths
+
+
+def runs_of_word(word):
+    """Put like deeds of a word that stand side by side together."""
+    return [(deed, len(list(group))) for deed, group in groupby(word)]
+
+
+def word_of_runs(runs):
+    """Write all deeds of runs out."""
+    return "".join(deed * times for deed, times in runs)
+
+
+def some_runs(many, most, seed):
+    """List some runs, the same ones at each call."""
+    source = random.Random(seed)
+    first = source.choice([0, 1])
+    return [("ul"[(first + at) % 2], source.randint(1, most)) for at in range(many)]
+
+
+def product_of(one, other):
+    """Multiply two tables."""
+    return [[sum(x * y for x, y in zip(row, column)) for column in zip(*other)] for row in one]
+
+
+def units(size):
+    """Tell the table of no deeds."""
+    return [[int(x == y) for y in range(size)] for x in range(size)]
+
+
+def table_of_deed(order, deed):
+    """Tell how the lengths behind a deed count in those ahead, by what the deed makes of each length alone."""
+    behind = [deed_with_lengths(order, lengths, deed)[1] for lengths in units(len(order))]
+    # The lengths behind are these columns of those ahead; turned about, the deed makes one longer again.
+    return inverse_of([list(row) for row in zip(*behind)])
+
+
+def inverse_of(table):
+    """Tell the table that undoes a table of a determinant of 1 or -1."""
+    size = len(table)
+    rows = [[Fraction(item) for item in row] + units(size)[at] for at, row in enumerate(table)]
+    for at in range(size):
+        pivot = next(row for row in rows[at:] if row[at] != 0)
+        rows.remove(pivot)
+        pivot = [item / pivot[at] for item in pivot]
+        rows = [[item - row[at] * lead for item, lead in zip(row, pivot)] for row in rows]
+        rows.insert(at, pivot)
+    return [[int(item) for item in row[size:]] for row in rows]
+
+
+def table_of_word(order, word):
+    """Multiply the tables of the deeds of a word."""
+    table = units(len(order))
+    for deed in word:
+        table = product_of(table, table_of_deed(order, deed))
+        order = deed_by_rows(order, deed)
+    return table
+
+
+def determinant_of(table):
+    """Tell the determinant of a table."""
+    rows, told = [[Fraction(item) for item in row] for row in table], Fraction(1)
+    while rows:
+        at = next((at for at, row in enumerate(rows) if row[0] != 0), None)
+        if at is None:
+            return 0
+        pivot = rows.pop(at)
+        told *= pivot[0] * (-1) ** at
+        rows = [[item - row[0] / pivot[0] * lead for item, lead in zip(row, pivot)][1:] for row in rows]
+    return int(told)
+
+
+def rank_of(lists):
+    """Tell how many of some lists are independent."""
+    rows, many = [[Fraction(item) for item in row] for row in lists], 0
+    while rows and rows[0]:
+        at = next((at for at, row in enumerate(rows) if row[0] != 0), None)
+        if at is not None:
+            pivot = rows.pop(at)
+            many += 1
+            rows = [[item - row[0] / pivot[0] * lead for item, lead in zip(row, pivot)] for row in rows]
+        rows = [row[1:] for row in rows]
+    return many
+
+
+def sign_of_crossing(order, x, y):
+    """Tell the item of the signed crossings for two letters."""
+    if x < y and order.index(y) < order.index(x):
+        return 1
+    return -1 if y < x and order.index(x) < order.index(y) else 0
+
+
+def grown_by_pairs(order):
+    """Close the single letters by pairs of sets that meet once; list the sets in order."""
+    found = {frozenset([letter]) for letter in range(len(order))}
+    latest = set(found)
+    while latest:
+        behind = set()
+        for one in latest:
+            for other in found:
+                if meets_by_pairs(order, one, other):
+                    behind.add(one ^ other)
+        latest = behind - found
+        found |= latest
+    return sorted(sorted(letters) for letters in found)

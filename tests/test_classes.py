@@ -196,6 +196,11 @@ class RefusedTest(Case):
         for value in NOT_WHOLE + [-1, 3, 4, 10 ** 29, -10 ** 29]:
             self.assert_refused(InvalidNumber, value, class_numbered, [2, 1, 0], value)
 
+    def test_numbers_of_larger_orders(self):
+        # To go through a class of 40 letters would take for ever.
+        for value in NOT_WHOLE + [-1, -10 ** 29]:
+            self.assert_refused(InvalidNumber, value, class_numbered, turned_row(40), value)
+
     def test_sizes(self):
         for value in NOT_WHOLE + [0, 1, -1, 9, 10, 40, 10 ** 29, -8]:
             for function in [classes, class_signs]:

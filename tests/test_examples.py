@@ -39,8 +39,13 @@ class ExamplesTest(unittest.TestCase):
         self.assertEqual(3, self.run_block("classes.txt"))
 
     def test_rounds(self):
-        # All but what the block behind [37] says of turnlines.kinds.
-        self.assertEqual(3, self.run_block("rounds.txt"))
+        self.assertEqual(4, self.run_block("rounds.txt"))
+
+    def test_tables(self):
+        self.assertEqual(6, self.run_block("tables.txt"))
+
+    def test_grown(self):
+        self.assertEqual(2, self.run_block("grown.txt"))
 
 
 if __name__ == "__main__":

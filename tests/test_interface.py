@@ -51,6 +51,17 @@ FUNCTIONS = {
         "round_time(order, lengths, cell)", "first_cell(order, lengths, cell)", "turns_to(order, lengths, one, other)",
         "rounds(order, lengths)", "are_one_round(order, lengths)", "first_cells(order, lengths)",
     ],
+    "turnlines.kinds": ["round_counts(order, lengths, cell)", "kinds(order, lengths)"],
+    "turnlines.runs": [
+        "taken(order, lengths)", "is_runs(value)", "led_by_runs(order, runs)", "runs_of(order, lengths)",
+        "end_of(order, lengths)", "takes_first(order, lengths, runs)",
+    ],
+    "turnlines.tables": [
+        "runs_table(order, runs)", "lengths_ahead(order, runs, lengths)", "times_of(order, runs)",
+        "signed_crossings(order)", "never_winning(order, runs)", "positive_power(order, runs)",
+        "runs_from(order, table)",
+    ],
+    "turnlines.grown": ["grown_sets(order)", "how_many_grown(order)"],
 }
 
 CALLS_BY_NAME = {
@@ -130,6 +141,23 @@ CALLS_BY_NAME = {
     "rounds": ({"lengths": [4, 6], "order": [1, 0]}, [(5, 2)]),
     "are_one_round": ({"lengths": [2, 1, 3], "order": [2, 1, 0]}, True),
     "first_cells": ({"lengths": [4, 6], "order": [1, 0]}, [(0, 2, 5)]),
+    "round_counts": ({"cell": 0, "lengths": [2, 1, 3], "order": [2, 1, 0]}, [2, 1, 3]),
+    "kinds": ({"lengths": [1, 2, 1], "order": [2, 1, 0]}, [([0, 1, 0], 2), ([1, 0, 1], 1)]),
+    "taken": ({"lengths": [2, 1, 3], "order": [2, 1, 0]}, ("u", [2, 0, 1], [2, 1, 1])),
+    "is_runs": ({"value": [("u", 2), ("l", 1)]}, True),
+    "led_by_runs": ({"runs": [("u", 3), ("l", 1)], "order": [2, 1, 0]}, [2, 0, 1]),
+    "runs_of": ({"lengths": [2, 1, 6], "order": [2, 1, 0]}, [("u", 3)]),
+    "end_of": ({"lengths": [2, 1, 6], "order": [2, 1, 0]}, ([2, 0, 1], [2, 1, 1])),
+    "takes_first": ({"runs": [("u", 2)], "lengths": [2, 1, 6], "order": [2, 1, 0]}, True),
+    "runs_table": ({"runs": [("u", 2), ("l", 1)], "order": [1, 0]}, [[1, 1], [2, 3]]),
+    "lengths_ahead": ({"lengths": [2, 1, 1], "runs": [("u", 3)], "order": [2, 1, 0]}, [2, 1, 6]),
+    "times_of": ({"runs": [("u", 3)], "order": [2, 1, 0]}, [3, 2, 1]),
+    "signed_crossings": ({"order": [1, 0]}, [[0, 1], [-1, 0]]),
+    "never_winning": ({"runs": [("u", 2), ("l", 2)], "order": [2, 1, 0]}, [1]),
+    "positive_power": ({"runs": [("u", 2), ("l", 1)], "order": [1, 0]}, 1),
+    "runs_from": ({"table": [[1, 1], [2, 3]], "order": [1, 0]}, [("u", 2), ("l", 1)]),
+    "grown_sets": ({"order": [1, 0]}, [[0], [0, 1], [1]]),
+    "how_many_grown": ({"order": [1, 0]}, 3),
 }
 
 

@@ -276,6 +276,8 @@ class RefusedTest(Case):
     def test_numbers(self):
         for value in NOT_WHOLE + [-1, 2, 3, 10 ** 29, -10 ** 29]:
             self.assert_refused(InvalidNumber, value, word_numbered, [2, 1, 0], [2, 1, 0], 2, value)
+        for value in NOT_WHOLE + [-1, -10 ** 29]:
+            self.assert_refused(InvalidNumber, value, word_numbered, TURNED_40, TURNED_40, 60, value)
         for value in [0, 1, -1, False]:
             self.assert_refused(InvalidNumber, value, word_numbered, [2, 1, 0], [2, 0, 1], 0, value)
             self.assert_refused(InvalidNumber, value, word_numbered, [3, 2, 1, 0], [3, 1, 2, 0], 5, value)

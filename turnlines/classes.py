@@ -2,7 +2,7 @@
 
 from itertools import permutations
 
-from turnlines.checks import need_number
+from turnlines.checks import need_count, need_number
 from turnlines.errors import TooMany
 from turnlines.joining import signs
 from turnlines.orders import first_fall, need_order
@@ -39,6 +39,9 @@ def class_number(order):
 
 def class_numbered(order, number):
     """Return the order at a place of the class of an order."""
+    need_order(order)
+    # What is no count is refused without a look at the class.
+    need_count(number)
     rows = rows_joined(order)
     need_number(number, 0, len(rows) - 1)
     return list(sorted(rows)[number])

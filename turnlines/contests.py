@@ -53,6 +53,11 @@ def lengths_behind(lengths, winner, losers, times):
     return [length - lost if letter == winner else length for letter, length in enumerate(lengths)]
 
 
+def unit_columns(many):
+    """Return the columns of so many letters ahead of all deeds: each letter counts once for itself."""
+    return [[1 if letter == other else 0 for other in range(many)] for letter in range(many)]
+
+
 def columns_behind(columns, winner, losers, times):
     """Return the list of the letters' columns behind so many deeds: each loss adds the winner's one to a loser's."""
     told = list(columns)

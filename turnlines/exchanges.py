@@ -4,7 +4,7 @@ from turnlines.checks import is_whole
 from turnlines.errors import InvalidNumber
 from turnlines.lines import moved, need_cell, need_lengths, stretch_at
 from turnlines.orders import need_order
-from turnlines.parts import got_back, time_of, way_down
+from turnlines.parts import column_of, got_back, way_down
 
 
 def need_cell_of(order, lengths, cell):
@@ -39,7 +39,7 @@ def led_times(order, lengths, cell, count):
     if not is_whole(count):
         raise InvalidNumber(count)
     parts, at, turns = way_down(order, lengths, cell)
-    left = (turns + count) % time_of(parts[-1])
+    left = (turns + count) % sum(column_of(parts[-1]))
     for part in parts[-2::-1]:
         at, left = got_back(part, at, left)
     return at

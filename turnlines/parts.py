@@ -27,10 +27,15 @@ def is_single(part):
     return len(part[1]) == 1
 
 
-def time_of(part):
-    """Return the time of the rounds that meet a part of a single letter."""
+def holds(part, cell):
+    """Tell whether a cell lies in a part."""
+    return part[0] <= cell < end_of_part(part)
+
+
+def column_of(part):
+    """Return the column of the letter of a single part."""
     start, upper, lower, lengths, columns = part
-    return sum(columns[upper[0]])
+    return columns[upper[0]]
 
 
 def contest_in(part):
@@ -100,7 +105,7 @@ def way_down(order, lengths, cell):
     while not is_single(parts[-1]):
         behind = shortened(parts[-1])
         at, turns = left_for(parts[-1], end_of_part(behind[-1]), at, turns)
-        parts.append([part for part in behind if part[0] <= at < end_of_part(part)][0])
+        parts.append([part for part in behind if holds(part, at)][0])
     return parts, at, turns
 
 

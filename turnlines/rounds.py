@@ -3,14 +3,14 @@
 from turnlines.exchanges import need_cell_of
 from turnlines.lines import need_cell, need_lengths
 from turnlines.orders import need_order
-from turnlines.parts import end_of_part, single_parts, time_of, way_down
+from turnlines.parts import column_of, end_of_part, single_parts, way_down
 
 
 def round_time(order, lengths, cell):
     """Return the least count of at least 1 by which a cell is led to itself."""
     need_cell_of(order, lengths, cell)
     parts, first, turns = way_down(order, lengths, cell)
-    return time_of(parts[-1])
+    return sum(column_of(parts[-1]))
 
 
 def first_cell(order, lengths, cell):
@@ -26,7 +26,7 @@ def turns_to(order, lengths, one, other):
     need_cell(lengths, other)
     parts, first, turns = way_down(order, lengths, one)
     parts, other_first, other_turns = way_down(order, lengths, other)
-    return (other_turns - turns) % time_of(parts[-1]) if first == other_first else None
+    return (other_turns - turns) % sum(column_of(parts[-1])) if first == other_first else None
 
 
 def rounds(order, lengths):
@@ -48,7 +48,7 @@ def first_cells(order, lengths):
     need_lengths(order, lengths)
     told = []
     for part in single_parts(order, lengths, [[1] for _ in order]):
-        start, many, time = part[0], end_of_part(part) - part[0], time_of(part)
+        start, many, time = part[0], end_of_part(part) - part[0], sum(column_of(part))
         if told and told[-1][2] == time and told[-1][0] + told[-1][1] == start:
             before = told.pop()
             start, many = before[0], before[1] + many

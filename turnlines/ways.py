@@ -84,6 +84,7 @@ def word_numbered(one, other, length, number):
     """Return the word of a length from one order to another one ahead of which, in order, so many of them are."""
     need_pair(one, other)
     need_count(length)
+    need_count(number)
     steps, counts = counts_of_words(one, other, length)
     need_number(number, 0, counts[length][0] - 1)
     word, place, ahead = "", 0, number
