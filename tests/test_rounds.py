@@ -61,19 +61,12 @@ class RoundOfCellTest(Case):
         ]:
             self.assert_told(expected, function, *args)
 
-    def test_small_lines(self):
+    def test_all_cells_of_small_lines(self):
         for order, lengths in small_lines():
             for ring in rounds_by_walking(order, lengths):
-                for cell in ring[:5]:
+                for cell in ring if len(order) <= 10 else ring[:5]:
                     self.assertEqual(repr(len(ring)), repr(self.told(round_time, order, lengths, cell)))
                     self.assertEqual(repr(ring[0]), repr(self.told(first_cell, order, lengths, cell)))
-
-    def test_all_cells_of_some_lines(self):
-        for order, lengths in small_lines()[::7]:
-            for ring in rounds_by_walking(order, lengths):
-                for cell in ring:
-                    self.assertEqual(len(ring), round_time(order, lengths, cell))
-                    self.assertEqual(ring[0], first_cell(order, lengths, cell))
 
     def test_turns_between_all_cells(self):
         for order, lengths in small_lines()[:350:11]:

@@ -31,7 +31,7 @@ def rows_behind(upper, lower, deed, times):
 
 
 def most_wins(length, losing):
-    """Return how many deeds a length stands, if it gets shorter by these lengths by turns and is never below 0."""
+    """Return how often a length can get shorter by other lengths, one by one and again and again, down to 0 at most."""
     rings, left = divmod(length, sum(losing))
     more = 0
     while left >= losing[more]:

@@ -60,7 +60,7 @@ def fallen_apart(part):
 
 
 def shortened(part):
-    """Return the list of the parts that are left of a part behind all deeds that one winner stands."""
+    """Return the list of the parts that are left of a part behind as many deeds as one letter can win."""
     start, upper, lower, lengths, columns = part
     deed, winner, losers, width = contest_in(part)
     times = most_wins(lengths[winner], [lengths[letter] for letter in losers])
@@ -87,7 +87,7 @@ def single_parts(order, lengths, columns):
 
 
 def left_for(part, end, cell, turns):
-    """Return a cell of a part ahead of its new end, and how many turns lead from it to where they led from a cell."""
+    """Return a cell of what is left of a part, and how many turns lead from it to where they lead from a cell."""
     if cell < end:
         return cell, turns
     start, upper, lower, lengths, columns = part
@@ -110,7 +110,10 @@ def way_down(order, lengths, cell):
 
 
 def got_back(part, cell, turns):
-    """Return the cell of a part, and the turns, fewer than its time, that lead from it to where more turns lead."""
+    """Return a cell of a part, and how many turns lead from it to where they lead from a cell of what is left of it.
+
+    Both times, the turns are fewer than the time of the letter on which the cell lies.
+    """
     start, upper, lower, lengths, columns = part
     deed, winner, losers, width = contest_in(part)
     letter, first = stretch_at(upper, lengths, start, cell)
