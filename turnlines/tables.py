@@ -6,7 +6,7 @@ from turnlines.errors import InvalidRun, InvalidTable
 from turnlines.forms import crossings
 from turnlines.lines import need_lengths
 from turnlines.orders import need_order
-from turnlines.runs import led_by_runs, need_runs, taken_to_the_end
+from turnlines.runs import led_by_runs, need_runs, runs_of
 
 
 def need_table(order, table):
@@ -105,6 +105,6 @@ def runs_from(order, table):
     lengths = [sum(row) for row in table]
     if 0 in lengths:
         return None
-    # Behind the runs of the table these lengths are all 1, and stand.
-    runs, upper, lower, left = taken_to_the_end(order, lengths)
-    return runs if left == [1] * len(order) and runs_table(order, runs) == table else None
+    # If there are such runs, these lengths take them first, and are all 1 behind them, so that they stand.
+    runs = runs_of(order, lengths)
+    return runs if runs_table(order, runs) == table else None
